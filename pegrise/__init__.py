@@ -1,0 +1,1 @@
+"""Pegrise: rises between pegs, told by sightings."""
